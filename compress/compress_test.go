@@ -233,6 +233,19 @@ func TestCompressAndExpand(t *testing.T) {
 	}
 }
 
+func TestCompressWithEachContext(t *testing.T) {
+	for index := range 8 {
+		for n := 1; n <= 4; n++ {
+			for _, address := range []string{header().Source, header().Target, "\xff\xfe\xfd\xfc"} {
+				l := contexts("s", "t", "u", "v", "w", "x", "y", "z")
+				l[index].Prefix = address[:n]
+				all(t, fmt.Sprintf("index %d, %d bytes, source", index, n), l, with(header(), func(h *api.Header) { h.Source = address }))
+				all(t, fmt.Sprintf("index %d, %d bytes, target", index, n), l, with(header(), func(h *api.Header) { h.Target = address }))
+			}
+		}
+	}
+}
+
 func TestErrorsOfCompress(t *testing.T) {
 	fail := func(name string, l []api.Context, h api.Header) {
 		if got, e := compress.Compress(l, h); got != "" || e != api.ErrArg {
